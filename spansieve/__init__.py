@@ -1,0 +1,1 @@
+"""Spansieve: sets of ticks made of unknown ones."""
