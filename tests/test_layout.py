@@ -19,6 +19,11 @@ INTERFACE = {
     },
     "plans.py": {"Plan": ("__init__", "size", "rows", "names", "text", "ticks", "marks", "cut", "read", "__eq__",
                           "__str__", "__repr__")},
+    "sieves.py": {"Sieve": ("__init__", "text", "names", "parts", "run", "show", "__and__", "__or__", "__sub__",
+                            "__invert__", "with_part", "__eq__", "__str__", "__repr__")},
+    "machines.py": {"machine": (), "Machine": ("names", "many", "moves", "good", "accepts", "__eq__", "__repr__")},
+    "judging.py": {name: () for name in ("alike", "first_parting", "within", "first_beyond")},
+    "looking.py": {name: () for name in ("ahead", "back", "unsure")},
 }
 
 

@@ -6,6 +6,7 @@ import unittest
 
 from spansieve.errors import InvalidNumber, InvalidRows, InvalidText, UnknownName, WrongMoment, WrongValue
 from spansieve.plans import Plan
+from values import ODD, STRINGS, Alike, Case, Silent, nested
 
 ALPHABET = "ABCDEFGHIJKLMNOPQRSTUVWXYZ"
 
@@ -13,51 +14,7 @@ SAMPLE_TEXT = "12\nA .##..#.#...#\nB ..#......#.#"
 SAMPLE_ROWS = (("A", (1, 2, 5, 7, 11)), ("B", (2, 9, 11)))
 
 
-class Alike:
-    """Calls itself equal to everything; nothing may be taken in by it."""
-
-    def __eq__(self, other):
-        return True
-
-    def __ne__(self, other):
-        return True
-
-
-class Silent:
-    """Cannot be compared, shown, hashed, measured or tested."""
-
-    __hash__ = None
-
-    def fail(self, *_):
-        raise RuntimeError("nobody should have asked")
-
-    __eq__ = __ne__ = __lt__ = __gt__ = __le__ = __ge__ = __repr__ = __str__ = __len__ = __bool__ = __iter__ = fail
-
-
-def nested(depth):
-    """Return a tuple that is nested so deep."""
-    value = ()
-    for _ in range(depth):
-        value = (value,)
-    return value
-
-
-# Neither integers nor strings, and as rows none that a plan has.
-ODD = (None, True, False, b"A", b"5", [], [5], {}, {"A": (0,)}, {0}, frozenset("A"), object(), Alike(), Silent(), int,
-       str, len, Plan, Plan(5), Plan.read, ("A",), nested(15), range(2), iter("A"), ValueError("A"))
-STRINGS = ("", "A", "5", "A" * 49999)
-
-
-class PlanCase(unittest.TestCase):
-    def check_raises(self, wrong, base, given, deed, *args, **more):
-        with self.assertRaises(wrong) as held:
-            deed(*args, **more)
-        self.assertIs(type(held.exception), wrong)
-        self.assertIsInstance(held.exception, base)
-        self.assertIs(held.exception.given, given)
-
-
-class MakingTest(PlanCase):
+class MakingTest(Case):
     def check_size(self, size):
         for args, more in (((size,), {}), ((size, ()), {}), ((), {"size": size}), ((), {"rows": (), "size": size})):
             self.check_raises(InvalidNumber, WrongValue, size, Plan, *args, **more)
@@ -182,7 +139,7 @@ class MakingTest(PlanCase):
         self.assertEqual(rows, kept)
 
 
-class AskingTest(PlanCase):
+class AskingTest(Case):
     def setUp(self):
         self.plan = Plan(12, SAMPLE_ROWS)
 
@@ -229,7 +186,7 @@ class AskingTest(PlanCase):
             self.assertEqual(plan.cut(3), self.plan.cut(3))
 
 
-class StayingTest(PlanCase):
+class StayingTest(Case):
     def test_properties_cannot_be_set(self):
         plan = Plan(12, SAMPLE_ROWS)
         for name in ("size", "rows", "names", "text"):
@@ -251,7 +208,7 @@ class StayingTest(PlanCase):
         self.assertEqual(vars(plan), before)
 
 
-class EqualityTest(PlanCase):
+class EqualityTest(Case):
     def check_unlike(self, one, other):
         self.assertIs(one == other, False)
         self.assertIs(one != other, True)
@@ -281,7 +238,7 @@ class EqualityTest(PlanCase):
             self.assertIs(bool(plan), True)
 
 
-class CutTest(PlanCase):
+class CutTest(Case):
     def test_first_ticks(self):
         plan = Plan(12, SAMPLE_ROWS)
         self.assertEqual(plan.cut(6).text, "6\nA .##..#\nB ..#...")
@@ -305,7 +262,7 @@ class CutTest(PlanCase):
                 self.check_raises(InvalidNumber, WrongValue, size, plan.cut, size=size)
 
 
-class ReadTest(PlanCase):
+class ReadTest(Case):
     def check_text(self, text):
         self.check_raises(InvalidText, WrongValue, text, Plan.read, text)
         self.check_raises(InvalidText, WrongValue, text, Plan.read, text=text)

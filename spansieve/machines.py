@@ -1,0 +1,98 @@
+"""Machines: what tells for all plans at once which answers are the right ones."""
+
+from spansieve.errors import InvalidTicks, NotAPlan, NotASieve, TooMany
+from spansieve.joining import operand_net, operation_net
+from spansieve.kinds import are_ticks, is_name
+from spansieve.limits import MOST_STANDS
+from spansieve.nets import least_machine
+from spansieve.plans import Plan
+from spansieve.sieves import Sieve
+from spansieve.texts import operands_of, read_steps, texts_of
+
+
+class Machine:
+    """A machine that reads for each tick in which sets it is and whether it is in the answer."""
+
+    def __init__(self, names, moves, good):
+        self._names = names
+        self._moves = moves
+        self._good = good
+
+    @property
+    def names(self):
+        """The rising row of the names."""
+        return self._names
+
+    @property
+    def many(self):
+        """The number of stands."""
+        return len(self._moves)
+
+    @property
+    def moves(self):
+        """For each stand the row of the stands to which the letters lead from it."""
+        return self._moves
+
+    @property
+    def good(self):
+        """The rising row of the good stands."""
+        return self._good
+
+    def accepts(self, plan, ticks):
+        """Tell whether these ticks are the answer for a plan."""
+        if not isinstance(plan, Plan):
+            raise NotAPlan(plan)
+        if not are_ticks(ticks, plan.size):
+            raise InvalidTicks(ticks)
+        letters = [0] * plan.size
+        for row in [plan.ticks(name) for name in self._names] + [ticks]:
+            letters = [2 * letter for letter in letters]
+            for tick in row:
+                letters[tick] += 1
+        stand = 0
+        for letter in letters:
+            stand = self._moves[stand][letter]
+        return stand in self._good
+
+    def __eq__(self, other):
+        return (isinstance(other, Machine) and self._names == other._names and self._moves == other._moves
+                and self._good == other._good)
+
+    def __repr__(self):
+        return f"Machine({len(self._moves)} stands)"
+
+
+def machine(sieve):
+    """Return the least machine of a sieve."""
+    if not isinstance(sieve, Sieve):
+        raise NotASieve(sieve)
+    steps = read_steps(sieve.text)
+    made = {}
+    waiting = []
+    # From the last part back the machines of operands are there before they are needed.
+    for (word, numbers), text in reversed(list(zip(steps, texts_of(steps)))):
+        operands = [waiting.pop() for _ in range(operands_of(word))]
+        if text not in made:
+            made[text] = _joined(word, numbers, operands) if operands else _plain(word)
+        waiting.append(made[text])
+    return waiting[0]
+
+
+def _plain(word):
+    """Return the machine of a name, of `none` or of `all`."""
+    if is_name(word):
+        return Machine((word,), ((0, 1, 1, 0), (1, 1, 1, 1)), (0,))
+    return Machine((), ((0, 1), (1, 1)) if word == "none" else ((1, 0), (1, 1)), (0,))
+
+
+def _joined(word, numbers, operands):
+    """Return the machine for what an operation makes of its operands."""
+    moves, good = least_machine(operation_net(word, numbers), MOST_STANDS)
+    operation = Machine(("E", "F"), moves, good)
+    # An operation with one operand does not look at another one.
+    one, two = operands if len(operands) == 2 else (operands[0], _plain("none"))
+    names = tuple(sorted(set(list(one.names) + list(two.names))))
+    found = least_machine(operand_net(operation, one, two, names), MOST_STANDS)
+    if found is None:
+        raise TooMany(MOST_STANDS)
+    return Machine(names, found[0], found[1])
