@@ -16,8 +16,6 @@ OTHER = ((0, 1), (1, 0))
 
 def ahead(sieve):
     """Return the least number that is enough ahead, None if there is none."""
-    if not isinstance(sieve, Sieve):
-        raise NotASieve(sieve)
     made = machine(sieve)
     ways = live_ways(made, made.names)
     return _least_enough(_lasting_ahead(ways))
@@ -45,8 +43,6 @@ def unsure(sieve, number):
 
 def back(sieve):
     """Return the least number that is enough back, None if there is none."""
-    if not isinstance(sieve, Sieve):
-        raise NotASieve(sieve)
     made = machine(sieve)
     ways = live_ways(made, made.names)
     sources = _sources(ways)
@@ -156,7 +152,7 @@ def _letters_to(ways, start, wanted):
 
 def _sources(ways):
     """Return for each stand and letter the pair of the lists of stands from which the answers lead here."""
-    sources = [[([], []) for _ in row] for row in ways]
+    sources = [[([], []) for _ in letters] for letters in ways]
     for stand, row in enumerate(ways):
         for letter, targets in enumerate(row):
             for truth, target in targets:
