@@ -53,6 +53,7 @@ def operand_net(operation, one, two, names):
     ways = live_ways(operation, ("E", "F"))
     one_ways = live_ways(one, names)
     two_ways = live_ways(two, names)
+    good, one_good, two_good = [{stand: True for stand in made.good} for made in (operation, one, two)]
 
     def lead(place):
         at, first, second = place
@@ -65,7 +66,7 @@ def operand_net(operation, one, two, names):
         return pairs
 
     def is_end(place):
-        return place[0] in operation.good and place[1] in one.good and place[2] in two.good
+        return place[0] in good and place[1] in one_good and place[2] in two_good
 
     return _net(2 << len(names), [(0, 0, 0)], lead, is_end)
 
