@@ -64,10 +64,24 @@ class Machine:
 
 def machine(sieve):
     """Return the least machine of a sieve."""
+    return machines_of_parts(sieve)[sieve.text]
+
+
+def machines_of_parts(sieve):
+    """Return a dict with the least machine of each part of a sieve, by its text."""
     if not isinstance(sieve, Sieve):
         raise NotASieve(sieve)
-    steps = read_steps(sieve.text)
     made = {}
+    if machine_among(read_steps(sieve.text), made) is None:
+        raise TooMany(MOST_STANDS)
+    return made
+
+
+def machine_among(steps, made):
+    """Return the least machine of a sieve, given by its steps, None if it is too great.
+
+    The dict `made` holds for texts what was told of them before, and gets what is told of the parts of this sieve.
+    """
     waiting = []
     # From the last part back the machines of operands are there before they are needed.
     for (word, numbers), text in reversed(list(zip(steps, texts_of(steps)))):
@@ -86,13 +100,13 @@ def _plain(word):
 
 
 def _joined(word, numbers, operands):
-    """Return the machine for what an operation makes of its operands."""
+    """Return the machine for what an operation makes of its operands; None if it or one of theirs is too great."""
+    if None in operands:
+        return None
     moves, good = least_machine(operation_net(word, numbers), MOST_STANDS)
     operation = Machine(("E", "F"), moves, good)
     # An operation with one operand does not look at another one.
     one, two = operands if len(operands) == 2 else (operands[0], _plain("none"))
     names = tuple(sorted(set(list(one.names) + list(two.names))))
     found = least_machine(operand_net(operation, one, two, names), MOST_STANDS)
-    if found is None:
-        raise TooMany(MOST_STANDS)
-    return Machine(names, found[0], found[1])
+    return None if found is None else Machine(names, found[0], found[1])

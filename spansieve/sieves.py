@@ -46,7 +46,7 @@ class Sieve:
             raise InvalidNumber(index)
         if not isinstance(other, Sieve):
             raise NotASieve(other)
-        return Sieve(replaced(self._steps, index, other._steps))
+        return Sieve(texts_of(replaced(self._steps, index, other._steps))[0])
 
     def _truths(self, plan):
         """Return for each tick of a plan 1 if it is in the answer, and 0 if it is not."""

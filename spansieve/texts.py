@@ -55,10 +55,14 @@ def texts_of(steps):
     return [text for text, _, _ in _shapes(steps)]
 
 
+def lengths_of(steps):
+    """Return for each part how many parts it has, itself included."""
+    return [many for _, _, many in _shapes(steps)]
+
+
 def replaced(steps, index, other):
-    """Return the text that comes about if the steps of another sieve stand in the place of the part with this index."""
-    _, _, many = _shapes(steps)[index]
-    return texts_of(steps[:index] + other + steps[index + many:])[0]
+    """Return the steps that come about if those of another sieve stand in the place of the part with this index."""
+    return steps[:index] + other + steps[index + lengths_of(steps)[index]:]
 
 
 def names_in(steps):

@@ -1,4 +1,4 @@
-"""Ways through machines: which stands can be come to, and which plan leads to a stand first."""
+"""Ways through machines: which stands can be come to, how long one can go on, and which plan leads to a stand first."""
 
 from spansieve.plans import Plan
 
@@ -79,3 +79,83 @@ def plan_of(names, letters):
         digit = len(names) - 1 - place
         rows.append((name, tuple([tick for tick, letter in enumerate(letters) if letter >> digit & 1])))
     return Plan(len(letters), tuple(rows))
+
+
+def letters_to(ways, start, wanted):
+    """Return the first row of letters that leads from a stand to a wanted one, None if there is none."""
+    letters = len(ways[0])
+    return first_letters(start, letters, lambda stand, letter: [target for _, target in ways[stand][letter]],
+                         lambda stand: stand in wanted)
+
+
+def reached(starts, lead):
+    """Return the list of all places that can be come to from the starts.
+
+    The function `lead` tells the places to which a step leads from a place.
+    """
+    known = {place: True for place in starts}
+    waiting = list(known)
+    found = []
+    while waiting:
+        place = waiting.pop()
+        found.append(place)
+        for target in lead(place):
+            if target not in known:
+                known[target] = True
+                waiting.append(target)
+    return found
+
+
+def lasting(starts, lead):
+    """Return for each place that can be come to from the starts in how many steps one can go on at most.
+
+    None if there is no end to it. The function `lead` tells the places to which a step leads from a place.
+    """
+    most = {}
+    entered = {}
+    waiting = list(starts)
+    while waiting:
+        place = waiting[-1]
+        if place in most:
+            waiting.pop()
+        elif place in entered:
+            waiting.pop()
+            # A place that was entered and is not done yet has led here: this is a round.
+            longer = [most.get(target) for target in entered[place]]
+            entered[place] = ()
+            most[place] = None if None in longer else max([-1] + longer) + 1
+        else:
+            entered[place] = lead(place)
+            waiting.extend([target for target in entered[place] if target not in entered])
+    return most
+
+
+def lasts(most, number):
+    """Tell whether what lasts for so many steps (None: without end) lasts for a number of them."""
+    return most is None or most >= number
+
+
+def longest(most):
+    """Return the greatest of the numbers of steps of `lasting`, None if one has no end, 0 if there are none."""
+    numbers = list(most.values())
+    return None if None in numbers else max([0] + numbers)
+
+
+def lasting_letters(most, place, number, lead):
+    """Return a row of so many letters on which one can go on from a place, and the place to which they lead.
+
+    The numbers of steps `most` are those of `lasting`; the function `lead` tells pairs of a letter and a place.
+    """
+    letters = []
+    while len(letters) < number:
+        letter, place = _lasting_step(most, number - len(letters) - 1, lead(place))
+        letters.append(letter)
+    return letters, place
+
+
+def _lasting_step(most, number, pairs):
+    """Return the first pair of a letter and a place from which one can go on for a number of steps."""
+    for letter, target in pairs:
+        if lasts(most[target], number):
+            return letter, target
+    return None

@@ -24,6 +24,9 @@ INTERFACE = {
     "machines.py": {"machine": (), "Machine": ("names", "many", "moves", "good", "accepts", "__eq__", "__repr__")},
     "judging.py": {name: () for name in ("alike", "first_parting", "within", "first_beyond")},
     "looking.py": {name: () for name in ("ahead", "back", "unsure")},
+    "lengths.py": {name: () for name in ("longest_run", "longest_gap")},
+    "shorter.py": {name: () for name in ("shorter", "idle")},
+    "players.py": {"Player": ("__init__", "tell", "end", "sieve", "told", "unsure")},
 }
 
 

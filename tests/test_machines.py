@@ -56,13 +56,6 @@ def acceptors(many):
 
 
 class MachineCase(Case):
-    def check_too_many(self, deed, *args, **more):
-        with self.assertRaises(TooMany) as held:
-            deed(*args, **more)
-        self.assertIs(type(held.exception), TooMany)
-        self.assertIsInstance(held.exception, WrongMoment)
-        self.assertEqual(held.exception.limit, 1000)
-
     def check_accepts(self, made, text, most):
         """Ask for all plans of few ticks and for all sets of ticks."""
         for line, ticks in second_way.answers(text, made.names, most).items():

@@ -2,6 +2,7 @@
 
 import unittest
 
+from spansieve.errors import TooMany, WrongMoment
 from spansieve.plans import Plan
 
 
@@ -40,9 +41,21 @@ ODD = (None, True, False, b"A", b"5", [], [5], {}, {"A": (0,)}, {0}, frozenset("
 STRINGS = ("", "A", "5", "A" * 49999)
 INTEGERS = (0, 1, -1, 5, 10**39, -(10**39))
 
+# Texts of sieves that are too great: by some hundred stands, by one stand, as the whole and in a part alone.
+TOO_GREAT = ("(move 6 (move 4 A))", "(move -6 (move -6 A))",
+             "(held (long 2 C) (grid 5 (begun (move -5 B) (pad 0 1 C))))", "(and none (move 6 (move 4 A)))",
+             "(first 0 (move -6 (move -6 Q)))", "(trim 1 1 (long 1 (or (move 6 A) (move -6 B))))")
+
 
 class Case(unittest.TestCase):
     """A test case that can ask for an error, its base class and what it was given."""
+
+    def check_too_many(self, deed, *args, **more):
+        with self.assertRaises(TooMany) as held:
+            deed(*args, **more)
+        self.assertIs(type(held.exception), TooMany)
+        self.assertIsInstance(held.exception, WrongMoment)
+        self.assertEqual(held.exception.limit, 1000)
 
     def check_raises(self, wrong, base, given, deed, *args, **more):
         with self.assertRaises(wrong) as held:
