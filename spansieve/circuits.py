@@ -70,7 +70,7 @@ class Circuit:
 
 
 def _operations(rows_of_steps):
-    """Return for the text of each operation its word, its numbers and the texts of its operands; operands come first."""
+    """Return for the text of each operation its word, numbers and texts of operands; operands come first."""
     operations = {}
     for steps in rows_of_steps:
         waiting = []
@@ -85,8 +85,8 @@ def _operations(rows_of_steps):
 def _places(operations, rows_of_steps):
     """Return the places of names and digits; for each the key is a text, a side (0 for before) and a digit.
 
-    Digits that tell of the same tick of a name should stand side by side, lest diagrams grow. How far back a digit looks
-    from here is told exactly for what is moved, and roughly for anything else.
+    Digits that tell of the same tick of a name should stand side by side, lest diagrams grow. How far back a digit
+    looks from here is told exactly for what is moved, and roughly for anything else.
     """
     backs = {"none": 0, "all": 0}
     rows = []

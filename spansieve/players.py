@@ -25,7 +25,7 @@ class Player:
         # For each told tick: from each stand the number of steps that go on, and the numbers of both answers.
         self._onward = []
         self._answers = []
-        self._open = {}
+        self._waiting = {}
 
     @property
     def sieve(self):
@@ -40,7 +40,7 @@ class Player:
     @property
     def unsure(self):
         """The rising row of the told ticks whose answers are not sure."""
-        return tuple(list(self._open))
+        return tuple(list(self._waiting))
 
     def tell(self, names):
         """Tell that the next tick is in the sets of just these names; return the pairs that are sure now."""
@@ -78,7 +78,7 @@ class Player:
             for truth, target in pairs:
                 answers[truth] += 1
                 led.setdefault(target, []).append((stand, truth))
-        self._open[len(self._answers)] = True
+        self._waiting[len(self._answers)] = True
         self._steps.append(led)
         self._onward.append(onward)
         self._answers.append(answers)
@@ -106,8 +106,8 @@ class Player:
         found = []
         for tick in sorted(ticks):
             zeros, ones = self._answers[tick]
-            if tick in self._open and (not zeros or not ones):
-                del self._open[tick]
+            if tick in self._waiting and (not zeros or not ones):
+                del self._waiting[tick]
                 found.append((tick, ones > 0))
         return tuple(found)
 

@@ -58,7 +58,7 @@ class Sieve:
             rows[name] = [1 if tick in marked else 0 for tick in range(plan.size)]
         waiting = []
         # From the last step back the answers of operands are there before they are needed.
-        for word, numbers in reversed(self._steps):
+        for word, numbers in reversed(list(self._steps)):
             if word in rows:
                 waiting.append(rows[word])
             else:

@@ -100,7 +100,7 @@ def _shapes(steps):
     shapes = []
     waiting = []
     # Operands stand behind their word: from the last step back each of them is there before it is needed.
-    for word, numbers in reversed(steps):
+    for word, numbers in reversed(list(steps)):
         at = len(waiting) - operands_of(word)
         if at < 0:
             return None
