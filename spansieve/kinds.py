@@ -12,6 +12,11 @@ def is_name(value):
     return isinstance(value, str) and len(value) == 1 and "A" <= value <= "Z"
 
 
+def is_word(value):
+    """Tell whether a value is a string of one to eight letters from a to z."""
+    return isinstance(value, str) and 1 <= len(value) <= 8 and all(["a" <= letter <= "z" for letter in value])
+
+
 def is_rising(row):
     """Tell whether each element of a row, tuple or list, is greater than the one to its left."""
     return all([left < right for left, right in zip(row, row[1:])])

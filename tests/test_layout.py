@@ -27,6 +27,11 @@ INTERFACE = {
     "lengths.py": {name: () for name in ("longest_run", "longest_gap")},
     "shorter.py": {name: () for name in ("shorter", "idle")},
     "players.py": {"Player": ("__init__", "tell", "end", "sieve", "told", "unsure")},
+    "books.py": {"Book": ("__init__", "put", "__getitem__", "drop", "wish", "lift", "undo", "words", "wishes", "changes",
+                          "__contains__", "trial", "tried")},
+    "checker.py": {"holds": ()},
+    "claims.py": {name: () for name in ("claim_of_parting", "claim_of_unsure", "claim_of_run", "claim_of_gap")},
+    "console.py": {"Console": ("__init__", "say")},
 }
 
 
