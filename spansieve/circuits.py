@@ -6,11 +6,8 @@ next tick follow from those before this tick; the states after this tick follow 
 """
 
 from spansieve.diagrams import Diagrams
-from spansieve.operations import OPERATIONS, reaches
+from spansieve.operations import OPERATIONS, TRUTHS, reaches
 from spansieve.texts import names_in, operands_of, texts_of
-
-# The truths of a tick: whether it is in E, and whether it is in F.
-TRUTHS = ((0, 0), (0, 1), (1, 0), (1, 1))
 
 
 class Circuit:

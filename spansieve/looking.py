@@ -2,23 +2,22 @@
 
 from spansieve.errors import InvalidNumber, NotASieve
 from spansieve.kinds import is_integer_from
+from spansieve.least import kinds_of, numbered
 from spansieve.machines import machine
+from spansieve.readings import NOWHERE, START, Readings
 from spansieve.sieves import Sieve
-from spansieve.walks import lasting, lasting_letters, lasts, letters_to, live_ways, longest, plan_of, reached
+from spansieve.walks import first_letters, lasting, lasting_letters, lasts, longest, plan_of, reached
 
 # The greatest number that may be asked about.
 MOST_AHEAD = 1000
 
-# The answers that two plans give at a tick.
-SAME = ((0, 0), (1, 1))
-OTHER = ((0, 1), (1, 0))
-
 
 def ahead(sieve):
     """Return the least number that is enough ahead, None if there is none."""
-    made = machine(sieve)
-    ways = live_ways(made, made.names)
-    return _least_enough(_lasting_ahead(ways))
+    readings = Readings(machine(sieve))
+    most = _lasting_ahead(readings, _splits(readings))
+    number = longest(most)
+    return number + 1 if most and number is not None else number
 
 
 def unsure(sieve, number):
@@ -28,90 +27,96 @@ def unsure(sieve, number):
     if not is_integer_from(number, 0, MOST_AHEAD):
         raise InvalidNumber(number)
     made = machine(sieve)
-    ways = live_ways(made, made.names)
-    most = _lasting_ahead(ways)
-    for stand, letter, pair in _splits(ways):
+    readings = Readings(made)
+    splits = _splits(readings)
+    most = _lasting_ahead(readings, splits)
+    for reading, letter, pair in splits:
         if lasts(most[pair], number):
-            start = letters_to(ways, 0, {stand: True})
-            shared, ends = lasting_letters(most, pair, number, lambda place: _pairs_after(ways, place))
-            good = {end: True for end in made.good}
+            start = _letters_to(readings, START, lambda place: place == reading)
+            shared, ends = lasting_letters(most, pair, number, lambda both: _pairs_after(readings, both))
             known = start + [letter] + shared
-            first, last = [plan_of(made.names, known + letters_to(ways, end, good)) for end in ends]
+            first, last = [plan_of(made.names, known + _letters_to_end(readings, end)) for end in ends]
             return first, last, len(start)
     return None
 
 
 def back(sieve):
     """Return the least number that is enough back, None if there is none."""
-    made = machine(sieve)
-    ways = live_ways(made, made.names)
-    sources = _sources(ways)
-    times = _times(ways)
-    ends = [(one, other) for one in made.good for other in made.good if one < other and times[one] & times[other]]
-    ends.extend([(stand, stand) for stand in range(len(ways))])
-    # Behind the last tick at which two answers differ the plans are the same, and so are the answers.
-    agreeing = reached(ends, lambda pair: _pairs_before(sources, times, pair, SAME))
-    last = [before for pair in agreeing for before in _pairs_before(sources, times, pair, OTHER)]
-    return _least_enough(lasting(last, lambda pair: _pairs_before(sources, times, pair, SAME + OTHER)))
+    readings = Readings(machine(sieve))
+    known = readings.known()
+    place = {reading: at for at, reading in enumerate(known)}
+    moves = [[place[target] for target in readings.onward(reading)] for reading in known]
+    columns = list(zip(*moves))
+    groups = _same_ticks(moves)
+    told = _answers_told(readings, known)
+    number = 0
+    seen = {}
+    # So many ticks after readings of the same tick the answers are told alike, if they are for all plans that go on.
+    while not all([min([told[at] for at in group]) == max([told[at] for at in group]) for group in groups]):
+        key = tuple(told)
+        if key in seen:
+            return None
+        seen[key] = True
+        later = [[told[at] for at in column] for column in columns]
+        told = numbered(list(zip(*later)))
+        number += 1
+    return number
 
 
-def _least_enough(most):
-    """Return the least number of ticks that is enough, from how many more ticks pairs of stands can last."""
-    number = longest(most)
-    return number + 1 if most and number is not None else number
+def _splits(readings):
+    """Return the triples of a reading, a letter and the pair of readings to which it leads with both answers."""
+    splits = []
+    known = readings.known()
+    for reading in known:
+        for letter, pair in enumerate(readings.answered(reading)):
+            if NOWHERE not in pair:
+                splits.append((reading, letter, pair))
+    return splits
 
 
-def _splits(ways):
-    """Return the triples of a stand, a letter and a pair of stands to which the letter leads with both answers."""
-    return [(stand, letter, (targets[0][1], targets[1][1]))
-            for stand, row in enumerate(ways) for letter, targets in enumerate(row) if len(targets) == 2]
+def _lasting_ahead(readings, splits):
+    """Return for each pair of readings that other answers at one tick lead to how long both can go on alike."""
+    return lasting([pair for _, _, pair in splits], lambda pair: [after for _, after in _pairs_after(readings, pair)])
 
 
-def _lasting_ahead(ways):
-    """Return for each pair of stands that other answers at one tick lead to how long it can go on."""
-    starts = [pair for _, _, pair in _splits(ways)]
-    return lasting(starts, lambda pair: [after for _, after in _pairs_after(ways, pair)])
+def _pairs_after(readings, pair):
+    """Return the pairs of a letter and the pair of readings to which it leads from a pair, where both go on."""
+    both = list(zip(readings.onward(pair[0]), readings.onward(pair[1])))
+    return [(letter, after) for letter, after in enumerate(both) if NOWHERE not in after]
 
 
-def _pairs_after(ways, pair):
-    """Return the pairs of a letter and the pair of stands to which it leads from a pair, with any answers."""
-    return [(letter, (one, other)) for letter, targets in enumerate(ways[pair[0]])
-            for _, one in targets for _, other in ways[pair[1]][letter]]
+def _letters_to(readings, start, is_wanted):
+    """Return the first row of letters that leads from a reading to a wanted one."""
+    return first_letters(start, len(readings.letters), lambda reading, letter: [readings.onward(reading)[letter]],
+                         is_wanted)
 
 
-def _sources(ways):
-    """Return for each stand and letter the pair of the lists of stands from which the answers lead here."""
-    sources = [[([], []) for _ in letters] for letters in ways]
-    for stand, row in enumerate(ways):
-        for letter, targets in enumerate(row):
-            for truth, target in targets:
-                sources[target][letter][truth].append(stand)
-    return sources
+def _letters_to_end(readings, start):
+    """Return the first row of letters with which a line can end that has led to a reading."""
+    return _letters_to(readings, start, lambda reading: readings.is_good(reading))
 
 
-def _times(ways):
-    """Return for each stand the numbers of ticks after which one can be there, as the bits of an integer.
+def _same_ticks(moves):
+    """Return the rows of readings to which plans with the same number of ticks lead, for all these numbers.
 
-    From the first stands on that come again, all goes on as it did before.
+    From the first row on that comes again, all goes on as it did before.
     """
-    times = [0] * len(ways)
-    stands = (0,)
-    known = {}
-    while stands not in known:
-        for stand in stands:
-            times[stand] |= 1 << len(known)
-        known[stands] = True
-        stands = tuple(sorted(set([target for at in stands for targets in ways[at] for _, target in targets])))
-    return times
+    rows = {}
+    row = (0,)
+    while row not in rows:
+        rows[row] = True
+        row = tuple(sorted(set([target for at in row for target in moves[at]])))
+    return list(rows)
 
 
-def _pairs_before(sources, times, pair, answers):
-    """Return the pairs of stands, at the same tick, from which one letter and two such answers lead to a pair."""
-    found = []
-    for ones, others in zip(sources[pair[0]], sources[pair[1]]):
-        for truth, other_truth in answers:
-            for one in ones[truth]:
-                for other in others[other_truth]:
-                    if one != other and times[one] & times[other]:
-                        found.append((one, other) if one < other else (other, one))
-    return found
+def _answers_told(readings, known):
+    """Return for each reading a number that it shares with those behind which the next answer depends on the same.
+
+    What the next answer depends on are the next tick and all that come behind it.
+    """
+    truths = [[one for _, one in readings.answered(reading)] for reading in known]
+    further = reached([reading for row in truths for reading in row], lambda reading: readings.onward(reading))
+    place = {reading: at for at, reading in enumerate(further)}
+    moves = [[place[target] for target in readings.onward(reading)] for reading in further]
+    kinds = kinds_of(moves, [readings.is_good(reading) for reading in further], len(moves))
+    return numbered([tuple([kinds[place[reading]] for reading in row]) for row in truths])

@@ -1,10 +1,9 @@
 """Machines: what tells for all plans at once which answers are the right ones."""
 
 from spansieve.errors import InvalidTicks, NotAPlan, NotASieve, TooMany
-from spansieve.joining import operand_net, operation_net
+from spansieve.joining import OF_A_NAME, joined
 from spansieve.kinds import are_ticks, is_name
 from spansieve.limits import MOST_STANDS
-from spansieve.nets import least_machine
 from spansieve.plans import Plan
 from spansieve.sieves import Sieve
 from spansieve.texts import operands_of, read_steps, texts_of
@@ -83,30 +82,63 @@ def machine_among(steps, made):
     The dict `made` holds for texts what was told of them before, and gets what is told of the parts of this sieve.
     """
     waiting = []
-    # From the last part back the machines of operands are there before they are needed.
+    # From the last part back the operands are there before they are needed.
     for (word, numbers), text in reversed(list(zip(steps, texts_of(steps)))):
         operands = [waiting.pop() for _ in range(operands_of(word))]
+        part = ((word, numbers),)
+        for operand, _ in operands:
+            part += operand
         if text not in made:
-            made[text] = _joined(word, numbers, operands) if operands else _plain(word)
-        waiting.append(made[text])
-    return waiting[0]
+            made[text] = _made_of(part, operands, made)
+        waiting.append((part, made[text]))
+    return waiting[0][1]
+
+
+def _made_of(part, operands, made):
+    """Return the machine of a part from the steps and the machines of its operands; None if one is too great."""
+    word, numbers = part[0]
+    if not operands:
+        return _plain(word)
+    if None in [operand for _, operand in operands]:
+        return None
+    shift = _common_shift(word, operands)
+    if shift:
+        # What is moved alike is joined first: the machine of a move has twice as many stands for each tick.
+        inner = machine_among(_moved_back(part, operands, shift), made)
+        if inner is not None:
+            return _joined("move", (shift,), [inner])
+    return _joined(word, numbers, [operand for _, operand in operands])
+
+
+def _common_shift(word, operands):
+    """Return by how many ticks both operands of an operation are moved alike that joins them tick by tick, 0 if not."""
+    heads = [steps[0] for steps, _ in operands]
+    if word not in ("and", "or", "less") or [head for head, _ in heads] != ["move", "move"]:
+        return 0
+    first, second = [numbers[0] for _, numbers in heads]
+    if first * second <= 0:
+        return 0
+    return min(first, second) if first > 0 else max(first, second)
+
+
+def _moved_back(part, operands, shift):
+    """Return the steps of an operation on what two operands are if they are moved by less."""
+    inner = part[:1]
+    for steps, _ in operands:
+        number = steps[0][1][0] - shift
+        inner += ((("move", (number,)),) if number else ()) + steps[1:]
+    return inner
 
 
 def _plain(word):
     """Return the machine of a name, of `none` or of `all`."""
     if is_name(word):
-        return Machine((word,), ((0, 1, 1, 0), (1, 1, 1, 1)), (0,))
+        return Machine((word,), OF_A_NAME, (0,))
     return Machine((), ((0, 1), (1, 1)) if word == "none" else ((1, 0), (1, 1)), (0,))
 
 
 def _joined(word, numbers, operands):
-    """Return the machine for what an operation makes of its operands; None if it or one of theirs is too great."""
-    if None in operands:
-        return None
-    moves, good = least_machine(operation_net(word, numbers), MOST_STANDS)
-    operation = Machine(("E", "F"), moves, good)
-    # An operation with one operand does not look at another one.
-    one, two = operands if len(operands) == 2 else (operands[0], _plain("none"))
-    names = tuple(sorted(set(list(one.names) + list(two.names))))
-    found = least_machine(operand_net(operation, one, two, names), MOST_STANDS)
+    """Return the machine for what an operation makes of its operands, None if it is too great."""
+    names = tuple(sorted(set([name for operand in operands for name in operand.names])))
+    found = joined(word, numbers, operands, names, MOST_STANDS)
     return None if found is None else Machine(names, found[0], found[1])

@@ -5,6 +5,9 @@ is carried on from tick to tick: from the first tick on for the side before, fro
 after. The same few rules serve to work out answers tick by tick and to make machines for all plans at once.
 """
 
+# The truths of a tick: whether it is in E, and whether it is in F.
+TRUTHS = ((0, 0), (0, 1), (1, 0), (1, 1))
+
 
 def _none(most, state, one, two):
     """Carry on nothing."""

@@ -15,16 +15,18 @@ def wide_moves(machine, names):
 
 def live_ways(machine, names):
     """Return for each stand and letter as above the pairs of an answer and a stand that can still become good."""
-    dead = _dead_stands(machine)
-    return [[[(truth, target) for truth, target in enumerate(targets) if target not in dead] for targets in row]
+    dead = _dead_stand(machine)
+    return [[[(truth, target) for truth, target in enumerate(targets) if target != dead] for targets in row]
             for row in wide_moves(machine, names)]
 
 
-def _dead_stands(machine):
-    """Return the stands that lead to themselves alone and are not good; a least machine has one of them at most."""
+def _dead_stand(machine):
+    """Return the stand that leads to itself alone and is not good, None if there is none; there is one at most."""
     good = {stand: True for stand in machine.good}
-    return {stand: True for stand, row in enumerate(machine.moves)
-            if stand not in good and all([target == stand for target in row])}
+    for stand, row in enumerate(machine.moves):
+        if stand not in good and min(row) == stand == max(row):
+            return stand
+    return None
 
 
 def _own_letter(machine, names, letter):
