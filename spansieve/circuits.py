@@ -82,8 +82,8 @@ def _operations(rows_of_steps):
 def _places(operations, rows_of_steps):
     """Return the places of names and digits; for each the key is a text, a side (0 for before) and a digit.
 
-    Digits that tell of the same tick of a name should stand side by side, lest diagrams grow. How far back a digit
-    looks from here is told exactly for what is moved, and roughly for anything else.
+    Digits that tell of the same ticks of a name should stand side by side, lest diagrams grow. How far back a digit
+    looks from here is told for what is moved; all digits of any other operation stand together.
     """
     backs = {"none": 0, "all": 0}
     rows = []
@@ -98,15 +98,15 @@ def _places(operations, rows_of_steps):
         carry, carry_back, _ = OPERATIONS[word]
         most, most_back = reaches(word, numbers)
         for digit in range(_digits(_states(carry, most))):
-            rows.append((-back - 1 - _moved(word, digit), number + 1, -digit, text, 0))
+            rows.append((-back - _moved(word, digit), number + 1, -digit, text, 0))
         for digit in range(_digits(_states(carry_back, most_back))):
-            rows.append((-back + 1 + _moved(word, digit), number + 1, -digit, text, 1))
+            rows.append((-back + _moved(word, digit), number + 1, -digit, text, 1))
     return {(text, side, -digit): 2 * at for at, (_, _, digit, text, side) in enumerate(sorted(set(rows)))}
 
 
 def _moved(word, digit):
-    """Return how much further a digit of the state of an operation looks than the first one."""
-    return digit if word == "move" else 0
+    """Return how much further from a tick a digit of the state of an operation looks than its operand does."""
+    return digit + 1 if word == "move" else 0
 
 
 def _states(side, most):
