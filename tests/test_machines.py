@@ -102,6 +102,23 @@ class LeastTest(MachineCase):
         for text, made in acceptors(150):
             self.check_accepts(made, text, {0: 5, 1: 5, 2: 3, 3: 2}[len(made.names)])
 
+    def test_what_is_moved_alike_and_joined(self):
+        for text in ("(and (move 1 A) (move 1 B))", "(or (move 2 A) (move 1 B))", "(less (move 1 A) (move 3 B))",
+                     "(and (move -1 A) (move -1 B))", "(or (move -1 A) (move -2 B))", "(less (move -2 A) (move -1 B))",
+                     "(and (move 1 A) (move -1 B))", "(or (move 0 A) (move 2 B))", "(less (move 1 (not A)) (move 1 (not B)))",
+                     "(and (move 1 (not A)) (and (move 1 A) (move 2 B)))", "(less (move -1 all) (move -2 (fill 1 B)))",
+                     "(held (move 1 A) (move 1 B))", "(meeting (move -1 A) (move -1 B))", "(or (move 1 A) (move 1 A))"):
+            made = machine(Sieve(text))
+            self.check_accepts(made, text, {1: 6, 2: 4}[len(made.names)])
+            self.check_shape(made)
+        for one, other in (("(and (move 6 A) (move 6 B))", "(move 6 (and A B))"),
+                           ("(or (move 6 A) (move 4 B))", "(move 4 (or (move 2 A) B))"),
+                           ("(less (move -6 A) (move -5 B))", "(move -5 (less (move -1 A) B))"),
+                           ("(and (move -6 A) (move -6 B))", "(move -6 (and A B))")):
+            self.assertEqual(machine(Sieve(one)), machine(Sieve(other)))
+        self.check_too_many(machine, Sieve("(and (move 6 A) (move 6 (move 4 B)))"))
+        self.check_too_many(machine, Sieve("(or (move 6 (meeting A B)) (move 6 (move 4 (or A B))))"))
+
     def test_as_few_stands_as_can_be_numbered_as_they_are_come_to(self):
         for _, made in acceptors(250):
             self.check_shape(made)
