@@ -106,18 +106,19 @@ def in_order(moves, good, kinds):
 
 def kinds_of(moves, good, most):
     """Return for each stand a number that it shares with just those that accept the same rows; None if too many."""
-    columns = list(zip(*moves))
+    # Letters that lead alike from all stands need to be asked but once.
+    columns = list({column: True for column in zip(*moves)})
     kinds = good
     many = 1
     while True:
         led = [[kinds[target] for target in column] for column in columns]
-        kinds = numbered(list(zip(kinds, *led)))
-        found = max(kinds) + 1
-        if found > most:
+        numbers = {}
+        kinds = [numbers.setdefault(key, len(numbers)) for key in zip(kinds, *led)]
+        if len(numbers) > most:
             return None
-        if found in (many, len(moves)):
+        if len(numbers) in (many, len(moves)):
             return kinds
-        many = found
+        many = len(numbers)
 
 
 def numbered(values):
