@@ -10,11 +10,11 @@ from spansieve.walks import live_ways
 OF_A_NAME = ((0, 1, 1, 0), (1, 1, 1, 1))
 
 
-def joined(word, numbers, operands, names, most):
-    """Return moves and good stands of the least machine of an operation, None if it has more than `most` stands.
+def joined(word, numbers, operands, names, known):
+    """Return moves and good stands of the least machine of an operation, None if it has too many stands.
 
     The operands are given by their machines. The names are all of theirs, rising; a letter has their truths, and that
-    of the answer as the last one.
+    of the answer as the last one. The dict `known` gets the machines of operations on any sets, for the next time.
     """
     ways = [live_ways(operand, names) for operand in operands]
     if len(operands) == 1:
@@ -25,12 +25,14 @@ def joined(word, numbers, operands, names, most):
     if len(guesses) == 1 and ones is not None and twos is not None:
         # No answer waits for later ticks, so there is but one way for each plan.
         steps, truths = _direct(_table(word, numbers), ones, twos)
-        return least_of_steps(steps, truths, most)
-    moves, good = operation_machine(word, numbers, len(operands))
+        return least_of_steps(steps, truths, MOST_STANDS)
+    if (word, numbers) not in known:
+        known[(word, numbers)] = operation_machine(word, numbers, len(operands))
+    moves, good = known[(word, numbers)]
     if all([operand.moves == OF_A_NAME for operand in operands]):
         if names == tuple([operand.names[0] for operand in operands]):
             return moves, good
-    return least_machine(operand_net(moves, good, ways, operands), most)
+    return least_machine(operand_net(moves, good, ways, operands), MOST_STANDS)
 
 
 def _singles(ways):

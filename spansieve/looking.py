@@ -52,7 +52,7 @@ def back(sieve):
     number = 0
     seen = {}
     # So many ticks after readings of the same tick the answers are told alike, if they are for all plans that go on.
-    while not all([min([told[at] for at in group]) == max([told[at] for at in group]) for group in groups]):
+    while not _are_told_alike(told, groups):
         key = tuple(told)
         if key in seen:
             return None
@@ -107,6 +107,16 @@ def _same_ticks(moves):
         rows[row] = True
         row = tuple(sorted(set([target for at in row for target in moves[at]])))
     return list(rows)
+
+
+def _are_told_alike(told, groups):
+    """Tell whether the same is told of all readings in each of the groups."""
+    for group in groups:
+        first = told[group[0]]
+        for at in group:
+            if told[at] != first:
+                return False
+    return True
 
 
 def _answers_told(readings, known):

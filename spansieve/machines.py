@@ -79,7 +79,8 @@ def machines_of_parts(sieve):
 def machine_among(steps, made):
     """Return the least machine of a sieve, given by its steps, None if it is too great.
 
-    The dict `made` holds for texts what was told of them before, and gets what is told of the parts of this sieve.
+    The dict `made` holds for texts what was told of them before, and gets what is told of the parts of this sieve; it
+    holds machines of operations, too.
     """
     waiting = []
     # From the last part back the operands are there before they are needed.
@@ -106,8 +107,8 @@ def _made_of(part, operands, made):
         # What is moved alike is joined first: the machine of a move has twice as many stands for each tick.
         inner = machine_among(_moved_back(part, operands, shift), made)
         if inner is not None:
-            return _joined("move", (shift,), [inner])
-    return _joined(word, numbers, [operand for _, operand in operands])
+            return _joined("move", (shift,), [inner], made)
+    return _joined(word, numbers, [operand for _, operand in operands], made)
 
 
 def _common_shift(word, operands):
@@ -137,8 +138,8 @@ def _plain(word):
     return Machine((), ((0, 1), (1, 1)) if word == "none" else ((1, 0), (1, 1)), (0,))
 
 
-def _joined(word, numbers, operands):
+def _joined(word, numbers, operands, made):
     """Return the machine for what an operation makes of its operands, None if it is too great."""
     names = tuple(sorted(set([name for operand in operands for name in operand.names])))
-    found = joined(word, numbers, operands, names, MOST_STANDS)
+    found = joined(word, numbers, operands, names, made)
     return None if found is None else Machine(names, found[0], found[1])
