@@ -1,10 +1,12 @@
 """Least machines: of nets, and of machines that may have stands that do the same."""
 
-from spansieve.nets import live_stands, trimmed
+from spansieve.nets import trimmed
 from spansieve.sums import least_by_sums
 
-# How many stands all sets may have together, each set counted as one more.
-ROOM = 20000
+# Up to how many stands of a net sets of them are tried, and how many stands all sets may have together, each set
+# counted as one more. Greater nets have too many sets for the most part.
+STANDS = 3000
+ROOM = 12000
 
 
 def least_machine(net, most):
@@ -12,8 +14,9 @@ def least_machine(net, most):
 
     The stands are numbered as they are come to first, stand by stand and letter by letter.
     """
-    found = _sets(net)
-    return least_by_sums(trimmed(net), most) if found is None else least_of(found[0], found[1], most)
+    net = trimmed(net)
+    found = _sets(net) if len(net.ways) <= STANDS else None
+    return least_by_sums(net, most) if found is None else least_of(found[0], found[1], most)
 
 
 def _sets(net):
@@ -22,22 +25,19 @@ def _sets(net):
     Its stand 1 is the set without stands. It is always come to: while all answers could still be right, each letter
     would double the sets.
     """
-    live = live_stands(net)
-    # Each live stand is in one of the sets at least.
-    room = ROOM if sum(live) <= ROOM else 0
-    sets = [tuple([stand for stand in net.starts if live[stand]]), ()]
+    room = ROOM
+    sets = [tuple(net.starts), ()]
     numbers = {stands: number for number, stands in enumerate(sets)}
     moves = []
     while len(moves) < len(sets):
         stands = sets[len(moves)]
-        found = {}
-        for stand in stands:
-            for letter, targets in net.ways[stand]:
-                kept = [target for target in targets if live[target]]
-                found[letter] = found[letter] + kept if letter in found else kept
         room -= 1 + len(stands)
         if room < 0:
             return None
+        found = {}
+        for stand in stands:
+            for letter, targets in net.ways[stand]:
+                found[letter] = found[letter] + targets if letter in found else targets
         row = [1] * net.letters
         for letter, targets in found.items():
             target = tuple(sorted(targets))
