@@ -4,9 +4,10 @@ from spansieve.errors import InvalidNumber, NotASieve
 from spansieve.kinds import is_integer_from
 from spansieve.least import kinds_of, numbered
 from spansieve.machines import machine
+from spansieve.pairs import ahead_by_pairs, back_by_pairs, least_enough, unsure_by_pairs
 from spansieve.readings import NOWHERE, START, Readings
 from spansieve.sieves import Sieve
-from spansieve.walks import first_letters, lasting, lasting_letters, lasts, longest, plan_of, reached
+from spansieve.walks import first_letters, lasting, lasting_letters, lasts, plan_of, reached
 
 # The greatest number that may be asked about.
 MOST_AHEAD = 1000
@@ -14,10 +15,10 @@ MOST_AHEAD = 1000
 
 def ahead(sieve):
     """Return the least number that is enough ahead, None if there is none."""
-    readings = Readings(machine(sieve))
+    made = machine(sieve)
+    readings = Readings(made)
     most = _lasting_ahead(readings, _splits(readings))
-    number = longest(most)
-    return number + 1 if most and number is not None else number
+    return ahead_by_pairs(made) if readings.full else least_enough(most)
 
 
 def unsure(sieve, number):
@@ -30,6 +31,8 @@ def unsure(sieve, number):
     readings = Readings(made)
     splits = _splits(readings)
     most = _lasting_ahead(readings, splits)
+    if readings.full:
+        return unsure_by_pairs(made, number)
     for reading, letter, pair in splits:
         if lasts(most[pair], number):
             start = _letters_to(readings, START, lambda place: place == reading)
@@ -42,13 +45,16 @@ def unsure(sieve, number):
 
 def back(sieve):
     """Return the least number that is enough back, None if there is none."""
-    readings = Readings(machine(sieve))
+    made = machine(sieve)
+    readings = Readings(made)
     known = readings.known()
+    told = _answers_told(readings, known)
+    if readings.full:
+        return back_by_pairs(made)
     place = {reading: at for at, reading in enumerate(known)}
     moves = [[place[target] for target in readings.onward(reading)] for reading in known]
     columns = list(zip(*moves))
     groups = _same_ticks(moves)
-    told = _answers_told(readings, known)
     number = 0
     seen = {}
     # So many ticks after readings of the same tick the answers are told alike, if they are for all plans that go on.

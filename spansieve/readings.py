@@ -8,17 +8,24 @@ NOWHERE = 0
 # The number of the reading before the first tick.
 START = 1
 
+# How many readings there may be for each stand of a machine, and besides.
+FOR_EACH = 5
+BESIDES = 1000
+
 
 class Readings:
     """The sets of stands that are come to, each with a number, and the steps between them.
 
-    All stands of a set can still become good; each plan that goes on from here goes on from just one of them.
+    All stands of a set can still become good; each plan that goes on from here goes on from just one of them. If there
+    are too many sets, `full` is true, and nothing else that is told holds.
     """
 
     def __init__(self, made):
         ways = live_ways(made, made.names)
         self.letters = list(range(len(ways[0])))
         self._ways = ways
+        self.full = False
+        self._room = FOR_EACH * made.many + BESIDES
         self._good = {stand: True for stand in made.good}
         self._sets = [(), (0,)]
         self._numbers = {(): NOWHERE, (0,): START}
@@ -56,6 +63,9 @@ class Readings:
         """Return the number of the reading with these stands."""
         row = tuple(sorted(set(stands)))
         if row not in self._numbers:
+            if len(self._sets) == self._room:
+                self.full = True
+                return NOWHERE
             self._numbers[row] = len(self._sets)
             self._sets.append(row)
         return self._numbers[row]

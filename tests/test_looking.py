@@ -6,7 +6,10 @@ import unittest
 import second_way
 from spansieve.errors import InvalidNumber, NotASieve, TooMany, WrongMoment, WrongValue
 from spansieve.looking import ahead, back, unsure
+from spansieve.machines import machine
+from spansieve.pairs import ahead_by_pairs, back_by_pairs, unsure_by_pairs
 from spansieve.plans import Plan
+from spansieve.readings import Readings
 from spansieve.sieves import Sieve
 from values import INTEGERS, ODD, STRINGS, Case, nested
 
@@ -157,6 +160,36 @@ class ReachTest(LookingCase):
         self.check_reach("(move 6 (move 3 A))", 0, 9)
         self.check_reach("(move -6 (move -2 A))", 8, 0)
         self.check_reach("(less (fill 3 A) (or (fill 3 B) (short 3 C)))", 3, 3)
+
+
+class PairsTest(LookingCase):
+    def test_pairs_of_stands_tell_the_same_as_readings(self):
+        chance = random.Random(14)
+        for _ in range(150):
+            text = second_way.made_up(chance, "ABC"[:chance.randint(1, 3)], chance.randint(1, 5))
+            sieve = Sieve(text)
+            try:
+                made = machine(sieve)
+            except TooMany:
+                continue
+            if made.many < 150:
+                self.assertEqual((ahead_by_pairs(made), back_by_pairs(made)), (ahead(sieve), back(sieve)), text)
+                for number in (0, 1, 2, 5, 40):
+                    told = unsure_by_pairs(made, number)
+                    self.assertEqual(told is None, unsure(sieve, number) is None)
+                    if told is not None:
+                        self.check_triple(text, number, told)
+
+    def test_more_readings_than_there_is_room_for(self):
+        # What will be answered to ticks behind is known of some and not of others, in all ways that there are.
+        text = "(move -4 (or (move 3 A) (trim 6 6 (move -5 B))))"
+        readings = Readings(machine(Sieve(text)))
+        readings.known()
+        self.assertTrue(readings.full)
+        self.check_reach(text, 15, 0)
+        readings = Readings(machine(Sieve("(pad 2 2 A)")))
+        readings.known()
+        self.assertFalse(readings.full)
 
 
 class UnsureTest(LookingCase):
